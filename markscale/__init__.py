@@ -1,0 +1,1 @@
+"""Markscale: pictures of data, drawn and read back."""

@@ -1,0 +1,52 @@
+"""Numbers as texts: -3/4, 12."""
+
+from markscale.errors import NoNumber
+from markscale.numbers import is_number, number
+
+DIGITS = "0123456789"
+MOST_FIGURES = 60
+MOST_BOTTOM = 60
+
+
+def are_digits(text):
+    """Whether a text has a sign at least and each of them is a digit."""
+    return text != "" and all([sign in DIGITS for sign in text])
+
+
+def are_figures(text):
+    """Whether a text writes a whole number from 0 on: no nought ahead, at most sixty figures."""
+    if len(text) > MOST_FIGURES or not are_digits(text):
+        return False
+    return text == "0" or text[0] != "0"
+
+
+def show_number(one):
+    """The text that writes a number."""
+    top = one[0]
+    bottom = one[1]
+    if bottom == 1:
+        return f"{top}"
+    return f"{top}/{bottom}"
+
+
+def read_number(text):
+    """The number that a text writes."""
+    if not isinstance(text, str):
+        raise NoNumber("a number is read of a text")
+    parts = text.split("/")
+    figures = parts[0][1:] if parts[0].startswith("-") else parts[0]
+    if len(parts) > 2 or not all([are_figures(part) for part in [figures] + parts[1:]]):
+        raise NoNumber("a number is written in figures")
+    wholes = [int(part) for part in parts]
+    if len(wholes) == 2 and wholes[1] == 0:
+        raise NoNumber("nothing is parted by 0")
+    one = number(wholes[0]) if len(wholes) == 1 else number(wholes[0], wholes[1])
+    # Each number is written in one way: -0, a bottom of 1 and what can be shortened are others.
+    if show_number(one) != text:
+        raise NoNumber("the number is written otherwise")
+    return one
+
+
+def is_told(thing):
+    """Whether a thing is a number of at most eighteen figures above and a bottom of at most 60."""
+    return is_number(thing) and abs(thing[0]) < 10 ** 18 and thing[1] <= MOST_BOTTOM

@@ -1,0 +1,37 @@
+"""Things of many kinds, for what must answer, or refuse, anything."""
+
+import copy
+
+
+def looped():
+    """A list that holds itself."""
+    thing = []
+    thing.append(thing)
+    return thing
+
+
+def deep(many, wrap):
+    """None, wrapped as many times."""
+    thing = None
+    for _ in range(many):
+        thing = wrap(thing)
+    return thing
+
+
+def things():
+    return [
+        None, True, False, 0, 1, -1, 12, 10 ** 5000, -(10 ** 5000),
+        "", " ", "a", "-", "\n", "Word", "number", "x" * 12000, "1" * 12000,
+        [], [None], [1, 2], [[]], ["a"], (), (None,), (1,), (1, 2, 3), ((), ()), ([], []), ({}, []), ("a", "b"),
+        {}, {"a": 1}, {1: 2}, {1, 2}, frozenset(), b"", b"12", object(), int, str, len, range(3), ValueError("no"),
+        looped(), (looped(), looped()), deep(5000, lambda thing: (thing,)), deep(5000, lambda thing: [thing]),
+        deep(5000, lambda thing: ("not", thing)),
+    ]
+
+
+def kept(case, call, *handed):
+    """What a call tells, once it is seen that what was handed in stays as it was."""
+    before = copy.deepcopy(handed)
+    told = call(*handed)
+    case.assertEqual(handed, before)
+    return told
