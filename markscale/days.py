@@ -52,13 +52,9 @@ def day_of(year, month, day):
 
 def year_of(day):
     """The year in which a day lies."""
-    # By even years the guess is off by one at most, about New Year.
+    # By years of even length the guess is never too late, and too early by one at most, about New Year.
     year = day * 400 // DAYS_OF_400_YEARS + 1
-    while year_begin(year) > day:
-        year -= 1
-    while year_begin(year + 1) <= day:
-        year += 1
-    return year
+    return year + 1 if year_begin(year + 1) <= day else year
 
 
 def parts_of(day):

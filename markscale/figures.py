@@ -13,13 +13,6 @@ def are_digits(text):
     return text != "" and all([sign in DIGITS for sign in text])
 
 
-def are_figures(text):
-    """Whether a text writes a whole number from 0 on: no nought ahead, at most sixty figures."""
-    if len(text) > MOST_FIGURES or not are_digits(text):
-        return False
-    return text == "0" or text[0] != "0"
-
-
 def show_number(one):
     """The text that writes a number."""
     top = one[0]
@@ -34,14 +27,11 @@ def read_number(text):
     if not isinstance(text, str):
         raise NoNumber("a number is read of a text")
     parts = text.split("/")
-    figures = parts[0][1:] if parts[0].startswith("-") else parts[0]
-    if len(parts) > 2 or not all([are_figures(part) for part in [figures] + parts[1:]]):
-        raise NoNumber("a number is written in figures")
-    wholes = [int(part) for part in parts]
-    if len(wholes) == 2 and wholes[1] == 0:
-        raise NoNumber("nothing is parted by 0")
-    one = number(wholes[0]) if len(wholes) == 1 else number(wholes[0], wholes[1])
-    # Each number is written in one way: -0, a bottom of 1 and what can be shortened are others.
+    figures = [parts[0][1:] if parts[0].startswith("-") else parts[0]] + parts[1:]
+    if not all([are_digits(part) and len(part) <= MOST_FIGURES for part in figures]):
+        raise NoNumber("a number is written in at most sixty figures")
+    one = number(int(parts[0])) if len(parts) == 1 else number(int(parts[0]), int(parts[1]))
+    # Each number is written in one way: a nought ahead, -0, a bottom of 1, a common divisor make another text.
     if show_number(one) != text:
         raise NoNumber("the number is written otherwise")
     return one

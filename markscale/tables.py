@@ -19,9 +19,9 @@ def is_word(thing):
     return all([sign in LETTERS for sign in thing])
 
 
-def are_unlike_words(things):
-    """Whether each thing of a list is a word, and no two of them are alike."""
-    return all([is_word(thing) for thing in things]) and len(set(things)) == len(things)
+def are_unlike(words):
+    """Whether no two words of a list are alike."""
+    return len(set(words)) == len(words)
 
 
 def is_cell(kind, thing):
@@ -39,14 +39,14 @@ def is_column(thing):
     """Whether a thing is a tuple of a name and a kind."""
     if not isinstance(thing, tuple) or len(thing) != 2:
         return False
-    return is_word(thing[0]) and is_word(thing[1]) and thing[1] in KINDS
+    return is_word(thing[0]) and isinstance(thing[1], str) and thing[1] in KINDS
 
 
 def are_columns(thing):
     """Whether a thing is a list of columns as a table has them."""
     if not isinstance(thing, list) or not 1 <= len(thing) <= MOST_COLUMNS:
         return False
-    return all([is_column(column) for column in thing]) and are_unlike_words([column[0] for column in thing])
+    return all([is_column(column) for column in thing]) and are_unlike([column[0] for column in thing])
 
 
 def is_row(thing, columns):

@@ -5,7 +5,7 @@ import unittest
 from markscale.days import day_of
 from markscale.errors import NoTable
 from markscale.tables import column_at, comes_before, is_cell, is_word, kind_at, look_at_table
-from things import kept, looped, things
+from things import is_text, kept, looped, things
 
 FIRST = day_of(1000, 1, 1)
 LAST = day_of(8999, 12, 31)
@@ -24,7 +24,7 @@ class Words(unittest.TestCase):
 
     def test_anything(self):
         for thing in things() + [["a"], ("a",), b"a"]:
-            self.assertIs(is_word(thing), isinstance(thing, str) and thing in ("a", "number"))
+            self.assertIs(is_word(thing), is_text(thing, "a", "number"))
 
 
 class Cells(unittest.TestCase):
@@ -122,7 +122,7 @@ class Tables(unittest.TestCase):
             self.refused((thing, []), None)
             self.refused(([thing], []), None)
             self.refused(([("a", "word"), thing], []), None)
-            if thing != "number":
+            if not is_text(thing, "number"):
                 self.refused(([("a", thing)], []), None)
 
     def test_rows_that_are_no_list(self):

@@ -3,6 +3,23 @@
 import copy
 
 
+class Agreeing:
+    """A thing that says that it is the same as any other one, and has no hash."""
+
+    __hash__ = None
+
+    def __eq__(self, other):
+        return True
+
+    def __ne__(self, other):
+        return False
+
+
+def is_text(thing, *texts):
+    """Whether a thing is one of these texts, and not only says so."""
+    return isinstance(thing, str) and thing in texts
+
+
 def looped():
     """A list that holds itself."""
     thing = []
@@ -24,6 +41,7 @@ def things():
         "", " ", "a", "-", "\n", "Word", "number", "x" * 12000, "1" * 12000,
         [], [None], [1, 2], [[]], ["a"], (), (None,), (1,), (1, 2, 3), ((), ()), ([], []), ({}, []), ("a", "b"),
         {}, {"a": 1}, {1: 2}, {1, 2}, frozenset(), b"", b"12", object(), int, str, len, range(3), ValueError("no"),
+        Agreeing(), (Agreeing(), Agreeing()),
         looped(), (looped(), looped()), deep(5000, lambda thing: (thing,)), deep(5000, lambda thing: [thing]),
         deep(5000, lambda thing: ("not", thing)),
     ]
