@@ -75,10 +75,16 @@ def rounded(one):
     return (2 * one[0] + one[1]) // (2 * one[1])
 
 
-def in_order(numbers):
-    """The numbers of a list by size, as a new list."""
-    # Over one bottom the tops alone tell which number is less.
+def common_bottom(numbers):
+    """The least bottom over which all numbers of a list can be written."""
     bottom = 1
     for one in numbers:
         bottom = bottom * one[1] // divisor_of(bottom, one[1])
+    return bottom
+
+
+def in_order(numbers):
+    """The numbers of a list by size, as a new list."""
+    # Over one bottom the tops alone tell which number is less.
+    bottom = common_bottom(numbers)
     return sorted(numbers, key=lambda one: one[0] * (bottom // one[1]))

@@ -1,5 +1,6 @@
 """Scales: the exact place of a cell, and what has a place."""
 
+from markscale.makes import greatest_of, least_of
 from markscale.numbers import floor_of, minus, number, over, plus, rounded, times, under
 
 
@@ -18,6 +19,15 @@ def straight_back(place, lo, hi, begin, end):
 def is_within(one, lo, hi):
     """Whether a number is neither less than lo nor above hi."""
     return not under(one, lo) and not under(hi, one)
+
+
+def straight_ends(numbers):
+    """The tuple of the ends, unlike ones, between which numbers lie."""
+    if numbers == []:
+        return (number(0), number(1))
+    lo = least_of(numbers)
+    hi = greatest_of(numbers)
+    return (lo, plus(lo, number(1)) if lo == hi else hi)
 
 
 def power_of(base, exponent):

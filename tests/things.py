@@ -1,6 +1,7 @@
 """Things of many kinds, for what must answer, or refuse, anything."""
 
 import copy
+from fractions import Fraction
 
 
 class Agreeing:
@@ -53,3 +54,15 @@ def kept(case, call, *handed):
     told = call(*handed)
     case.assertEqual(handed, before)
     return told
+
+
+def told(one, bottom=1):
+    """A number as the program has it, of a fraction or of top and bottom."""
+    fraction = Fraction(one, bottom)
+    return (fraction.numerator, fraction.denominator)
+
+
+def words_many(many):
+    """As many unlike words of two letters, at most 676."""
+    letters = "abcdefghijklmnopqrstuvwxyz"
+    return [one + other for one in letters for other in letters][:many]
