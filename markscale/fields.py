@@ -1,7 +1,9 @@
 """Fields: where places are put on the sheet, and which items have none."""
 
-from markscale.numbers import rounded
-from markscale.scales import place_on
+from markscale.numbers import minus, number, over, plus, rounded
+from markscale.scales import place_on, stretch_on
+
+TENTH = 10
 
 
 def put_x(field, place):
@@ -31,6 +33,19 @@ def y_of(field, item):
     return put_y(field, place_of(field, item, "y"))
 
 
+def bar_ends(field, word):
+    """The tuple (x0, x1) of where a bar of a word begins and ends: a tenth within the word's stretch."""
+    stretch = stretch_on(field[0], word)
+    tenth = over(minus(stretch[1], stretch[0]), number(TENTH))
+    return (put_x(field, plus(stretch[0], tenth)), put_x(field, minus(stretch[1], tenth)))
+
+
+def base_on(scale):
+    """The place on which bars stand: that of 0, or the scale's begin where 0 has none."""
+    place = place_on(scale, number(0))
+    return number(0) if isinstance(place, str) else place
+
+
 def loss_of(field, item, channels):
     """The tuple (number, channel, reason) of the first channel at which an item has no place, or None."""
     for channel in channels:
@@ -51,3 +66,17 @@ def parted(field, items, channels):
         else:
             lost.append(loss)
     return (standing, lost)
+
+
+def by_word(field, items):
+    """The lists of items of one word of x, of words that have any, in the scale's order."""
+    groups = [[item for item in items if item[1] == word] for word in field[0][1]]
+    return [group for group in groups if group]
+
+
+def by_rank(items):
+    """The lists of items of one rank and colour, by rising (rank, colour)."""
+    groups = {}
+    for item in items:
+        groups.setdefault((item[4], item[5]), []).append(item)
+    return [groups[look] for look in sorted(groups)]

@@ -1,52 +1,17 @@
 """Points 20 and 21: dots and words."""
 
 import unittest
-from fractions import Fraction
-from math import floor
 
-from markscale.days import day_of
-from markscale.scales import place_on
+from fieldwork import BROKEN, CORNERS, DAY, DAYS, ORDER, PLACED, STRAIGHT, TENS, Marks, field_of, item, place, whole
 from markscale.spots import dots, words
-from things import kept, words_many
-
-DAY = day_of(2024, 2, 29)
-STRAIGHT = ("straight", (-1, 1), (3, 1), 100)
-TENS = ("turns", 10, -1, 3, 90)
-BROKEN = ("broken", [((0, 1), (10, 1), 0, 40), ((50, 1), (60, 1), 46, 100)], 100)
-DAYS = ("days", DAY, DAY + 10, 25)
-ORDER = ("order", ["b", "a", "c"], 100)
-
-# Of each scale: cells that have a place, each with the rounded one, and cells that have none, each with the reason.
-PLACED = (
-    (STRAIGHT, [((-1, 1), 0), ((3, 1), 100), ((1, 3), 33), ((1, 2), 38), ((0, 1), 25)],
-     [((4, 1), "outside"), ((-2, 1), "outside"), (None, "nothing")]),
-    (TENS, [((1, 10), 0), ((1, 1), 30), ((100, 1), 90), ((11, 2), 45)],
-     [((0, 1), "nought"), ((-1, 1), "nought"), ((1, 11), "outside"), ((101, 1), "outside"), (None, "nothing")]),
-    (BROKEN, [((0, 1), 0), ((10, 1), 40), ((50, 1), 46), ((60, 1), 100), ((1, 8), 1)],
-     [((11, 1), "gap"), ((49, 1), "gap"), ((-1, 1), "outside"), ((61, 1), "outside"), (None, "nothing")]),
-    (DAYS, [(DAY, 0), (DAY + 1, 3), (DAY + 10, 25)], [(DAY - 1, "outside"), (DAY + 11, "outside"), (None, "nothing")]),
-    (ORDER, [("b", 17), ("a", 50), ("c", 83)], [("d", "unknown"), (None, "nothing")]),
-)
+from things import told, words_many
 
 
-def field_of(x, y, x0=7, y0=-4):
-    return (x, y, x0, y0, x[-1], y[-1])
-
-
-def item(number, x, y, other="text", rank=0, colour=0, size=3):
-    return (number, x, y, other, rank, colour, size)
-
-
-class Spots(unittest.TestCase):
-    def check(self, call, field, side, items, marks, lost):
-        self.assertEqual(kept(self, call, field, side, items), (marks, lost))
-
-
-class Dots(Spots):
+class Dots(Marks):
     def test_each_scale(self):
         for x, xs, xless in PLACED:
             for y, ys, yless in PLACED:
-                for x0, y0 in ((0, 0), (12, 340), (-999999, 999999), (5, -5)):
+                for x0, y0 in CORNERS:
                     field = field_of(x, y, x0, y0)
                     for cell, along in xs:
                         for other, up in ys:
@@ -54,14 +19,7 @@ class Dots(Spots):
                                        [(("dot", "left", x0 + along, y0 + y[-1] - up, 20, 2), [4])], [])
 
     def test_without_a_place(self):
-        for x, xs, xless in PLACED:
-            for y, ys, yless in PLACED:
-                field = field_of(x, y)
-                for cell, reason in xless:
-                    for other in [ys[0][0], yless[0][0], None]:
-                        self.check(dots, field, "left", [item(0, cell, other, None)], [], [(0, "x", reason)])
-                for cell, reason in yless:
-                    self.check(dots, field, "left", [item(0, xs[0][0], cell, None)], [], [(0, "y", reason)])
+        self.check_lost_at_x_and_y(dots, None)
 
     def test_other_is_not_looked_at(self):
         field = field_of(STRAIGHT, STRAIGHT)
@@ -87,15 +45,13 @@ class Dots(Spots):
 
     def test_no_more_than_half_a_place_off(self):
         field = field_of(STRAIGHT, TENS, 10, 20)
-        for top in range(1, 120):
-            cell = (Fraction(top, 40).numerator, Fraction(top, 40).denominator)
-            shape = dots(field, "left", [item(0, cell, cell)])[0][0][0] if Fraction(top, 40) >= Fraction(1, 10) else None
-            if shape is not None:
-                self.assertEqual(shape[2], 10 + floor(Fraction(*place_on(STRAIGHT, cell)) + Fraction(1, 2)))
-                self.assertEqual(shape[3], 20 + 90 - floor(Fraction(*place_on(TENS, cell)) + Fraction(1, 2)))
+        for top in range(4, 120):
+            cell = told(top, 40)
+            shape = dots(field, "left", [item(0, cell, cell)])[0][0][0]
+            self.assertEqual(shape[2:4], (10 + whole(place(STRAIGHT, cell)), 20 + 90 - whole(place(TENS, cell))))
 
 
-class Words(Spots):
+class Words(Marks):
     def test_each_scale(self):
         for x, xs, xless in PLACED:
             for y, ys, yless in PLACED:
@@ -106,16 +62,11 @@ class Words(Spots):
                                    [(("word", "right", -3 + along, 9 + y[-1] - up, "bern", 1), [4])], [])
 
     def test_without_a_place(self):
+        self.check_lost_at_x_and_y(words, "bern")
+        self.check_lost_at_x_and_y(words, None)
         for x, xs, xless in PLACED:
             for y, ys, yless in PLACED:
-                field = field_of(x, y)
-                for text in ("bern", None):
-                    for cell, reason in xless:
-                        for other in [ys[0][0], yless[0][0], None]:
-                            self.check(words, field, "left", [item(0, cell, other, text)], [], [(0, "x", reason)])
-                    for cell, reason in yless:
-                        self.check(words, field, "left", [item(0, xs[0][0], cell, text)], [], [(0, "y", reason)])
-                self.check(words, field, "left", [item(0, xs[0][0], ys[0][0], None)], [], [(0, "other", "nothing")])
+                self.check(words, field_of(x, y), "left", [item(0, xs[0][0], ys[0][0], None)], [], [(0, "other", "nothing")])
 
     def test_words_of_no_order_of_the_field(self):
         field = field_of(ORDER, ORDER, 0, 0)
@@ -138,20 +89,10 @@ class Words(Spots):
         self.assertEqual(lost, [])
 
 
-class OwnThings(unittest.TestCase):
+class OwnThings(Marks):
     def test_what_is_told_is_the_askers_own(self):
-        field = field_of(STRAIGHT, STRAIGHT)
         for call in (dots, words):
-            items = [item(0, (0, 1), (0, 1)), item(1, None, (0, 1))]
-            first = call(field, "left", items)
-            again = call(field, "left", items)
-            items.clear()
-            first[0][0][1].append(5)
-            first[0].clear()
-            first[1].clear()
-            self.assertEqual(len(again[0]), 1)
-            self.assertEqual(again[0][0][1], [0])
-            self.assertEqual(call(field, "left", [item(0, (0, 1), (0, 1)), item(1, None, (0, 1))]), again)
+            self.check_own(call, field_of(STRAIGHT, ORDER), [item(0, (0, 1), "a"), item(1, None, "a")])
 
 
 if __name__ == "__main__":
