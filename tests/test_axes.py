@@ -380,12 +380,12 @@ class Days(Axes):
         return found
 
     def test_each_step(self):
-        seen = []
-        for days in (1, 9, 60, 100, 800, 9000, 90000, 900000):
-            cells = [DAY, DAY + days]
-            scale, ticks = self.check(cells, 132, "upright")
-            seen.append(ticks[1][1])
-        self.assertEqual(seen, ["2024-03-01", "2024-03-01", "2024-03-04", "2024-03-01", "2024-04-01", "2030-01-01", "2100-01-01", "3000-01-01"])
+        for days, first, second in ((9, "2024-02-29", "2024-03-01"), (60, "2024-02-26", "2024-03-04"),
+                                    (250, "2024-02-01", "2024-03-01"), (800, "2024-01-01", "2024-04-01"),
+                                    (3000, "2024-01-01", "2025-01-01"), (9000, "2020-01-01", "2030-01-01"),
+                                    (90000, "2000-01-01", "2100-01-01"), (900000, "2000-01-01", "3000-01-01")):
+            scale, ticks = self.check([DAY + days, DAY], 135, "upright")
+            self.assertEqual([ticks[0][1], ticks[1][1]], [first, second])
 
     def test_plain_ones(self):
         self.assertEqual(self.axis(("days",), [DAY, DAY + 2], 24, "upright"),

@@ -182,8 +182,12 @@ class Heaps(Marks):
         self.check(heaps, field, "left", items, [],
                    [(0, "y", "outside"), (1, "y", "below"), (2, "y", "outside"), (3, "x", "unknown"), (4, "y", "outside")])
 
-    def test_none(self):
+    def test_none_and_sixty(self):
         self.check(heaps, field_of(ORDER, UP), "left", [], [], [])
+        parts, lost = self.parts(UP, [item(at, "b", (1, 6), None, 59 - at) for at in range(60)])
+        self.assertEqual(lost, [])
+        self.assertEqual([numbers for begin, end, numbers in parts], [[at] for at in reversed(range(60))])
+        self.assertEqual([end for begin, end, numbers in parts], [whole(Fraction(10 * at, 6)) for at in range(1, 61)])
 
     def test_by_plain_reading(self):
         chance = random.Random(2)
