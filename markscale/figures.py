@@ -22,19 +22,24 @@ def show_number(one):
     return f"{top}/{bottom}"
 
 
-def read_number(text):
-    """The number that a text writes."""
+def read_figures(text, most):
+    """The number that a text writes in at most so many figures above and below."""
     if not isinstance(text, str):
         raise NoNumber("a number is read of a text")
     parts = text.split("/")
     figures = [parts[0][1:] if parts[0].startswith("-") else parts[0]] + parts[1:]
-    if not all([are_digits(part) and len(part) <= MOST_FIGURES for part in figures]):
-        raise NoNumber("a number is written in at most sixty figures")
+    if not all([are_digits(part) and len(part) <= most for part in figures]):
+        raise NoNumber("a number is written in figures, and not too many")
     one = number(int(parts[0])) if len(parts) == 1 else number(int(parts[0]), int(parts[1]))
     # Each number is written in one way: a nought ahead, -0, a bottom of 1, a common divisor make another text.
     if show_number(one) != text:
         raise NoNumber("the number is written otherwise")
     return one
+
+
+def read_number(text):
+    """The number that a text writes."""
+    return read_figures(text, MOST_FIGURES)
 
 
 def is_told(thing):

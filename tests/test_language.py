@@ -28,6 +28,8 @@ NAMES_OUT = set("register mro elements open input version_info with_traceback ad
 DUNDERS = {"__init__", "__eq__", "__repr__", "__str__", "__len__"}
 WALKED = {"zip", "enumerate", "reversed", "range"}
 WALKERS = {"list", "tuple", "dict", "sorted", "sum", "any", "all", "enumerate", "zip", "min", "max", "set"}
+MAY_BE_VALUES = set("count index title find get join lower upper split strip copy add".split())
+PYTHONS = {name for kind in (str, int, list, dict, set, bytes) for name in dir(kind)}
 BUILTINS = set(dir(__builtins__)) if not isinstance(__builtins__, dict) else set(__builtins__)
 
 
@@ -56,6 +58,18 @@ def is_plain(node):
     if isinstance(node, ast.UnaryOp) and isinstance(node.op, ast.USub):
         return is_plain(node.operand)
     return isinstance(node, (ast.Constant, ast.Name))
+
+
+def own_names():
+    """The names of the methods, and of the values given to self, in all classes of the package."""
+    methods, values = set(), set()
+    for path in files():
+        for part in ast.walk(tree_of(path)):
+            if isinstance(part, ast.ClassDef):
+                methods |= {node.name for node in part.body if isinstance(node, ast.FunctionDef)} - DUNDERS
+                values |= {node.attr for node in ast.walk(part) if isinstance(node, ast.Attribute)
+                           and isinstance(node.ctx, ast.Store) and isinstance(node.value, ast.Name) and node.value.id == "self"}
+    return methods, values
 
 
 class Language(unittest.TestCase):
@@ -227,13 +241,20 @@ class Language(unittest.TestCase):
                     if isinstance(sign, (ast.Is, ast.IsNot)) and not any(side.value in (None, True, False) for side in near):
                         self.bad(path, node, "L20")
 
+    def test_own_methods_and_values(self):
+        methods, values = own_names()
+        self.assertEqual(methods & values, set(), "L18")
+        self.assertEqual(values & (PYTHONS - MAY_BE_VALUES), set(), "L26")
+        self.assertEqual(methods & (PYTHONS - METHODS - {"add", "discard"}), set(), "L26")
+
     def test_calls(self):
+        methods, values = own_names()
         for path in files():
             tree = tree_of(path)
             parents = parents_of(tree)
             for node in ast.walk(tree):
                 if isinstance(node, ast.Attribute):
-                    self.check_attribute(path, node, parents)
+                    self.check_attribute(path, node, parents, METHODS | methods, values)
                 if isinstance(node, ast.Call) and isinstance(node.func, ast.Name):
                     self.check_call(path, node, parents)
                 if isinstance(node, ast.Name) and node.id in OWN - ERRORS - {"True", "False", "None"}:
@@ -245,13 +266,15 @@ class Language(unittest.TestCase):
                     if isinstance(parent, ast.Call) and parent.func != node and not in_check:
                         self.bad(path, node, "L22")
 
-    def check_attribute(self, path, node, parents):
+    def check_attribute(self, path, node, parents, methods, values):
         parent = parents[node]
         called = isinstance(parent, ast.Call) and parent.func == node
-        if called and node.attr not in METHODS:
+        if called and node.attr not in methods:
             self.bad(path, node, f"L25 {node.attr}")
-        if not called and not (isinstance(node.value, ast.Name) and node.value.id == "self"):
+        if not called and node.attr not in values:
             self.bad(path, node, f"L25 {node.attr}")
+        if isinstance(node.ctx, ast.Store) and not isinstance(node.value, ast.Name):
+            self.bad(path, node, f"L18 {node.attr}")
         if called and parent.keywords:
             self.bad(path, node, "L22")
 

@@ -62,6 +62,11 @@ def told(one, bottom=1):
     return (fraction.numerator, fraction.denominator)
 
 
+def fraction(number):
+    """A number of the program as a fraction."""
+    return Fraction(*number)
+
+
 def words_many(many):
     """As many unlike words of two letters, at most 676."""
     letters = "abcdefghijklmnopqrstuvwxyz"
