@@ -57,38 +57,52 @@ class Drawings(unittest.TestCase):
     def near(self, place, wanted):
         self.assertLessEqual(abs(place - wanted), HALF)
 
-    def spots(self, plain, mark):
-        """The tuples (x, y) of a mark, each with the row that it shows, and its place of other."""
+    def points(self, plain, mark):
+        """The tuples (point, row) of a dot, word, path or band, a point with an x, a y and of bands that of other."""
         rows = [plain.rows[at] for at in mark.rows]
         if mark.shape[0] in ("dot", "word"):
-            return [(mark.shape[2], mark.shape[3], rows[0])]
+            return [(mark.shape[2:4], rows[0])]
         rows = sorted(rows, key=lambda row: exact(mark.scales[0], plain.cell(row, plain.x[0])))
-        return [(point[0], point[1], row) for point, row in zip(mark.shape[2], rows)]
+        self.assertEqual(len(mark.shape[2]), len(rows))
+        return list(zip(mark.shape[2], rows))
+
+    def check_points(self, plain, mark, frame):
+        x, y, _, height, _ = frame
+        _, _, column, other = plain.layers[mark.layer]
+        for point, row in self.points(plain, mark):
+            self.near(point[0] - x, exact(mark.scales[0], plain.cell(row, plain.x[0])))
+            for up, name in zip(point[1:], (column, other)):
+                self.near(y + height - up, exact(mark.scales[1], plain.cell(row, name)))
+
+    def check_bar(self, plain, mark, frame, sums):
+        """The ends of a bar, part or five at its word, and what is put of its numbers; sums are those of heaps so far."""
+        x, y, width, height, _ = frame
+        cells = [fraction(plain.cell(plain.rows[at], plain.layers[mark.layer][2])) for at in mark.rows]
+        word, many = plain.cell(plain.rows[mark.rows[0]], plain.x[0]), len(mark.scales[0][1])
+        begin = Fraction(mark.scales[0][1].index(word) * width, many)
+        self.near(mark.shape[2] - x, begin + Fraction(width, 10 * many))
+        self.near(mark.shape[3] - x, begin + Fraction(9 * width, 10 * many))
+        wanted = [(mark.shape[5], cells[0])]
+        if mark.shape[0] == "five":
+            wanted = [(mark.shape[4][0], min(cells)), (mark.shape[4][4], max(cells))]
+        if mark.shape[0] == "part":
+            heap = (mark.facet, mark.layer, word)
+            wanted = [(mark.shape[4], sums[heap])] if sums.get(heap) else []
+            sums[heap] = sums.get(heap, 0) + cells[0]
+            wanted.append((mark.shape[5], sums[heap]))
+        for up, one in wanted:
+            self.near(y + height - up, exact(mark.scales[1], (one.numerator, one.denominator)))
 
     def test_a_no_more_than_half_a_place_off(self):
         found = 0
         for telling, table, plain, frames in self.each(3, 300):
             self.assertEqual([shape for shape in drawn(telling, table)[0] if not is_ground(shape)], [mark.shape for mark in plain.marks])
+            sums = {}
             for mark in plain.marks:
-                x, y, width, height, _ = frames[mark.facet]
-                column = plain.layers[mark.layer][2]
                 if mark.shape[0] in ("dot", "word", "path", "band"):
-                    for at, up, row in self.spots(plain, mark):
-                        self.near(at - x, exact(mark.scales[0], plain.cell(row, plain.x[0])))
-                        if mark.shape[0] in ("dot", "word"):
-                            self.near(y + height - up, exact(mark.scales[1], plain.cell(row, column)))
+                    self.check_points(plain, mark, frames[mark.facet])
                 else:
-                    word = plain.cell(plain.rows[mark.rows[0]], plain.x[0])
-                    many = len(mark.scales[0][1])
-                    begin = Fraction(mark.scales[0][1].index(word) * width, many)
-                    self.near(mark.shape[2] - x, begin + Fraction(width, 10 * many))
-                    self.near(mark.shape[3] - x, begin + Fraction(9 * width, 10 * many))
-                    if mark.shape[0] == "bar":
-                        self.near(y + height - mark.shape[5], exact(mark.scales[1], plain.cell(plain.rows[mark.rows[0]], column)))
-                    if mark.shape[0] == "five":
-                        cells = [fraction(plain.cell(plain.rows[at], column)) for at in mark.rows]
-                        for end, cell in ((0, min(cells)), (4, max(cells))):
-                            self.near(y + height - mark.shape[4][end], exact(mark.scales[1], (cell.numerator, cell.denominator)))
+                    self.check_bar(plain, mark, frames[mark.facet], sums)
                 found += 1
         self.assertGreater(found, 500)
 
